@@ -1,0 +1,1 @@
+"""Rowveil: a store that shows each user the rows its rules let, and gives nothing else away."""

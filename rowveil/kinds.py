@@ -1,0 +1,45 @@
+"""Whole numbers and names: the kinds of plain values that all else is made of."""
+
+LONGEST_NAME = 8
+LETTERS = "abcdefghijklmnopqrstuvwxyz"
+WORDS = (
+    "rows", "view", "where", "keep", "named", "pairs", "both", "less", "count", "seal",
+    "and", "or", "not", "mine", "empty", "loud", "yes", "has",
+)
+
+
+def is_whole(thing):
+    """Whether it is a whole number."""
+    # Python takes True and False for numbers; the document does not.
+    return isinstance(thing, int) and not isinstance(thing, bool)
+
+
+def is_whole_within(thing, least, most):
+    """Whether it is a whole number from least to most."""
+    return is_whole(thing) and least <= thing <= most
+
+
+def is_name(thing):
+    """Whether it is a name."""
+    if not isinstance(thing, str) or not 1 <= len(thing) <= LONGEST_NAME:
+        return False
+    return thing not in WORDS and all([letter in LETTERS for letter in thing])
+
+
+def are_unlike(names):
+    """Whether no text of a list or tuple of texts stands there twice."""
+    return len(set(names)) == len(names)
+
+
+def is_names(thing):
+    """Whether it is a tuple of one or more unlike names."""
+    if not isinstance(thing, tuple) or not thing:
+        return False
+    return all([is_name(name) for name in thing]) and are_unlike(thing)
+
+
+def word_of(thing):
+    """The text that a tuple begins with; None of anything else."""
+    if not isinstance(thing, tuple) or not thing or not isinstance(thing[0], str):
+        return None
+    return thing[0]

@@ -1,0 +1,95 @@
+"""The form of the code: those rules of LANGUAGE.md that are quickly looked at."""
+
+import ast
+import pathlib
+import re
+import unittest
+
+PACKAGE = pathlib.Path(__file__).resolve().parent.parent / "rowveil"
+BARRED_WORDS = (
+    "type typing typing_extensions enum Enum IntEnum StrEnum Flag IntFlag Generic Protocol ABC ABCMeta namedtuple "
+    "NamedTuple TypedDict TYPE_CHECKING abstractmethod"
+).split()
+BARRED_NAMES = (
+    "register mro elements open input version_info with_traceback add_note attrgetter breakpoint builtins compile "
+    "copyright credits delattr dir eval exec exit gc getattr globals hasattr help id importlib license locals "
+    "methodcaller os quit setattr type vars sys hash map filter round iter next"
+).split()
+BUILTINS = (
+    "len range enumerate zip min max sum abs sorted reversed int str bool bytes list tuple dict set frozenset "
+    "isinstance ord repr any all divmod super"
+).split()
+
+
+def bound_names(tree):
+    """All names that a file gives a meaning."""
+    for node in ast.walk(tree):
+        if isinstance(node, ast.Name) and isinstance(node.ctx, ast.Store):
+            yield node.id
+        elif isinstance(node, (ast.FunctionDef, ast.ClassDef)):
+            yield node.name
+        elif isinstance(node, ast.arg):
+            yield node.arg
+
+
+class LanguageTest(unittest.TestCase):
+    def setUp(self):
+        self.files = {path: path.read_text("ascii") for path in sorted(PACKAGE.glob("*.py"))}
+        self.trees = {path: ast.parse(text) for path, text in self.files.items()}
+
+    def test_the_folder_has_sources_only(self):
+        others = [path.name for path in PACKAGE.iterdir() if path.suffix != ".py" and path.name != "__pycache__"]
+        self.assertEqual(others, [])
+
+    def test_sizes_and_characters(self):
+        for path, text in self.files.items():
+            lines = text.split("\n")
+            self.assertLessEqual(len(lines), 400, path)
+            self.assertLessEqual(max(len(line) for line in lines), 120, path)
+            self.assertRegex(text, r"\A[ -~\n]*\Z", path)
+
+    def test_functions_are_short(self):
+        for path, tree in self.trees.items():
+            for node in ast.walk(tree):
+                if isinstance(node, ast.FunctionDef):
+                    self.assertLessEqual(node.end_lineno - node.lineno + 1, 40, (path, node.name))
+
+    def test_barred_words(self):
+        for path, text in self.files.items():
+            for word in BARRED_WORDS:
+                self.assertIsNone(re.search(rf"\b{word}\b", text), (path, word))
+            for word in ["dataclass", "overload", "contextmanager", "%"]:
+                self.assertNotIn(word, text, path)
+
+    def test_imports_are_of_the_package(self):
+        for path, tree in self.trees.items():
+            for node in ast.walk(tree):
+                self.assertNotIsInstance(node, ast.Import, path)
+                if isinstance(node, ast.ImportFrom):
+                    self.assertTrue(node.module.startswith("rowveil."), (path, node.module))
+                    defined = set(bound_names(self.trees[PACKAGE / (node.module.split(".")[1] + ".py")]))
+                    for alias in node.names:
+                        self.assertIn(alias.name, defined, path)
+
+    def test_names(self):
+        for path, tree in self.trees.items():
+            for name in bound_names(tree):
+                plain = not name.startswith("_") or re.fullmatch(r"__[a-z]+__", name)
+                self.assertTrue(plain, (path, name))
+                self.assertNotIn(name, BARRED_NAMES + BUILTINS, path)
+
+    def test_what_is_not_used(self):
+        barred = (
+            ast.GeneratorExp, ast.Global, ast.AsyncFunctionDef, ast.Div, ast.Await, ast.Yield, ast.YieldFrom,
+        )
+        for path, tree in self.trees.items():
+            for node in ast.walk(tree):
+                self.assertNotIsInstance(node, barred, (path, getattr(node, "lineno", 0)))
+                if isinstance(node, ast.Constant):
+                    self.assertNotIsInstance(node.value, (float, complex), path)
+                if isinstance(node, ast.Compare) and isinstance(node.ops[0], (ast.Is, ast.IsNot)):
+                    self.assertIsInstance(node.comparators[0], ast.Constant, (path, node.lineno))
+
+
+if __name__ == "__main__":
+    unittest.main()
