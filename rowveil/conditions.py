@@ -1,7 +1,7 @@
 """Conditions over columns: which there are, and what they tell."""
 
 from rowveil.grounds import column_names, find_table
-from rowveil.kinds import is_whole_within, word_of
+from rowveil.kinds import is_whole_within, with_changed, word_of
 from rowveil.telling import Scene, make_teller
 
 MOST_PARTS = 8
@@ -50,12 +50,18 @@ def is_part(ground, columns, thing):
     return True
 
 
+def conditions_here(condition):
+    """The conditions right within a condition that are over the same columns, from the left."""
+    if condition[0] == "has":
+        return []
+    return [part for kind, part in zip(FORMS[condition[0]], condition[1:]) if kind == "condition"]
+
+
 def parts_within(ground, columns, condition):
     """The conditions right within a condition, each behind the columns that it is over."""
     if condition[0] == "has":
         return [(column_names(find_table(ground, condition[1])), condition[4])]
-    kinds = FORMS[condition[0]]
-    return [(columns, part) for kind, part in zip(kinds, condition[1:]) if kind == "condition"]
+    return [(columns, part) for part in conditions_here(condition)]
 
 
 def all_parts(ground, columns, thing, most):
@@ -75,16 +81,48 @@ def all_parts(ground, columns, thing, most):
     return found
 
 
+def bounded_parts(ground, columns, thing):
+    """As all_parts, but None, too, of what has too many parts or a has within a has."""
+    parts = all_parts(ground, columns, thing, MOST_PARTS)
+    return None if parts is None or ("has", True) in parts else parts
+
+
 def is_condition(ground, columns, thing):
     """Whether it is a condition of the ground over these columns."""
-    parts = all_parts(ground, columns, thing, MOST_PARTS)
-    return parts is not None and ("has", True) not in parts
+    return bounded_parts(ground, columns, thing) is not None
+
+
+def is_quiet_condition(ground, columns, thing):
+    """Whether rules and views may have it: a condition without loud."""
+    parts = bounded_parts(ground, columns, thing)
+    return parts is not None and all([word != "loud" for word, within in parts])
 
 
 def is_plain_condition(ground, columns, thing):
     """Whether a plain ask may have it: without mine, but of any size."""
     parts = all_parts(ground, columns, thing, None)
     return parts is not None and all([word != "mine" for word, within in parts])
+
+
+def with_conditions(condition, change):
+    """The condition with each condition right within it changed by the function."""
+    return with_changed(condition, FORMS[condition[0]], "condition", change)
+
+
+def columns_of(condition):
+    """The columns here that a condition looks at, a list; those of a has's table are none of them."""
+    found = [part for kind, part in zip(FORMS[condition[0]], condition[1:]) if kind == "column"]
+    for part in conditions_here(condition):
+        found.extend(columns_of(part))
+    return found
+
+
+def with_columns(condition, names):
+    """The condition over other names: of each column here that which the dict has for it."""
+    over = with_changed(condition, FORMS[condition[0]], "column", lambda column: names[column])
+    if condition[0] == "has":
+        return over
+    return with_conditions(over, lambda part: with_columns(part, names))
 
 
 def tells(ground, world, columns, row, condition, *, user=0):

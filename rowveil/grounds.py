@@ -1,7 +1,7 @@
 """Grounds, their tables, columns and rows, and the worlds of a ground."""
 
 from rowveil.errors import TooMany
-from rowveil.kinds import are_unlike, is_name, is_whole, is_whole_within
+from rowveil.kinds import are_unlike, is_name, is_rising, is_whole, is_whole_within
 
 MOST_ROWS = 8
 MOST_IN_TABLE = 12
@@ -44,7 +44,7 @@ def is_ground(thing):
         return False
     if not all([is_table(table) for table in thing]):
         return False
-    return all([table[0] < following[0] for table, following in zip(thing, thing[1:])])
+    return is_rising([table[0] for table in thing])
 
 
 def find_table(ground, name):
@@ -138,10 +138,15 @@ def may_follow(table, rows, row):
     return len(rows) < MOST_IN_TABLE and key_of(table, rows[-1]) != key_of(table, row)
 
 
-def all_worlds(ground, *, most=MOST_ROWS):
-    """All worlds of a ground with at most so many possible rows, a rising list."""
+def check_few_rows(ground, most):
+    """Refuses (TooMany) a ground of which more than so many rows are possible."""
     if sum([count_rows(table[2]) for table in ground]) > most:
         raise TooMany(f"more than {most} rows are possible")
+
+
+def all_worlds(ground, *, most=MOST_ROWS):
+    """All worlds of a ground with at most so many possible rows, a rising list."""
+    check_few_rows(ground, most)
     worlds = [()]
     for table in ground:
         contents = all_contents(table)

@@ -1,4 +1,4 @@
-"""Whole numbers and names: the kinds of plain values that all else is made of."""
+"""Whole numbers and names, which all else is made of, and tuples that begin with a word."""
 
 LONGEST_NAME = 8
 LETTERS = "abcdefghijklmnopqrstuvwxyz"
@@ -31,6 +31,11 @@ def are_unlike(names):
     return len(set(names)) == len(names)
 
 
+def is_rising(things):
+    """Whether each of a list or tuple of things that are in order is less than the one behind it."""
+    return all([thing < following for thing, following in zip(things, things[1:])])
+
+
 def is_names(thing):
     """Whether it is a tuple of one or more unlike names."""
     if not isinstance(thing, tuple) or not thing:
@@ -43,3 +48,9 @@ def word_of(thing):
     if not isinstance(thing, tuple) or not thing or not isinstance(thing[0], str):
         return None
     return thing[0]
+
+
+def with_changed(thing, kinds, kind, change):
+    """The tuple with each part of that kind changed by the function; kinds are those of the parts behind its word."""
+    parts = [change(part) if part_kind == kind else part for part_kind, part in zip(kinds, thing[1:])]
+    return (thing[0], *parts)

@@ -7,12 +7,17 @@ from rowveil.grounds import EMPTY, column_names
 
 
 class Scene:
-    """The rows that are there, for a user, and what has been heard of them so far."""
+    """The rows that are there, for a user, and what has been heard of them so far.
 
-    def __init__(self, ground, world, user):
+    Where these are not all rows, whole is the scene that has all: what views with own eyes look at.
+    """
+
+    def __init__(self, ground, world, user, views=(), whole=None):
         self.heads = {table[0]: column_names(table) for table in ground}
         self.rows = {table[0]: rows for table, rows in zip(ground, world)}
         self.user = user
+        self.views = {view[0]: view for view in views}
+        self.whole = whole
         self.heard = {}
 
     def hear(self, column, value):
