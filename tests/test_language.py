@@ -32,6 +32,11 @@ def bound_names(tree):
             yield node.arg
 
 
+def called(node):
+    """The name of what is called."""
+    return node.func.id if isinstance(node.func, ast.Name) else getattr(node.func, "attr", None)
+
+
 class LanguageTest(unittest.TestCase):
     def setUp(self):
         self.files = {path: path.read_text("ascii") for path in sorted(PACKAGE.glob("*.py"))}
@@ -89,6 +94,40 @@ class LanguageTest(unittest.TestCase):
                     self.assertNotIsInstance(node.value, (float, complex), path)
                 if isinstance(node, ast.Compare) and isinstance(node.ops[0], (ast.Is, ast.IsNot)):
                     self.assertIsInstance(node.comparators[0], ast.Constant, (path, node.lineno))
+
+    def test_iterated_at_once(self):
+        takers = "list tuple dict sorted sum any all enumerate zip".split()
+        for path, tree in self.trees.items():
+            at_once = set()
+            for node in ast.walk(tree):
+                if isinstance(node, (ast.For, ast.comprehension)):
+                    at_once.add(node.iter)
+                elif isinstance(node, ast.Call) and isinstance(node.func, ast.Name) and node.func.id in takers:
+                    at_once.update(node.args)
+            for node in ast.walk(tree):
+                if isinstance(node, ast.Call) and called(node) in "zip enumerate reversed range items keys values".split():
+                    self.assertIn(node, at_once, (path, node.lineno))
+
+    def test_no_name_means_two_things(self):
+        for path, tree in self.trees.items():
+            outer = [name.name for node in tree.body if isinstance(node, ast.ImportFrom) for name in node.names]
+            outer += [node.name for node in tree.body if isinstance(node, (ast.ClassDef, ast.FunctionDef))]
+            outer += [node.targets[0].id for node in tree.body if isinstance(node, ast.Assign)]
+            self.assertEqual(len(outer), len(set(outer)), path)
+            for node in ast.walk(tree):
+                if isinstance(node, ast.FunctionDef):
+                    inner = {name for part in node.body + [node.args] for name in bound_names(part)}
+                    self.assertEqual(inner & set(outer), set(), (path, node.name))
+
+    def test_methods_and_attributes_have_names_apart(self):
+        methods, attributes = set(), set()
+        for tree in self.trees.values():
+            for node in ast.walk(tree):
+                if isinstance(node, ast.ClassDef):
+                    methods.update(part.name for part in node.body if isinstance(part, ast.FunctionDef))
+                elif isinstance(node, ast.Attribute) and isinstance(node.ctx, ast.Store):
+                    attributes.add(node.attr)
+        self.assertEqual(methods & attributes, set())
 
 
 if __name__ == "__main__":

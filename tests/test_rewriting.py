@@ -106,45 +106,46 @@ class AlikeTest(unittest.TestCase):
     """Worlds that are alike for a user: what is heard there by asks that are rewritten and put low."""
 
     GROUND = (("s", 1, (("a", 2, False),)), ("t", 1, (("a", 2, False), ("b", 2, True))))
-    RULES = [("read", "let", "s", (), YES), ("read", "let", "t", (0,), ("is", "b", 1))]
-    VIEWS = [
-        ("lack", ("less", ("rows", "s"), ("keep", ("rows", "t"), ("a",))), "own", ()),
-        ("keys", ("keep", ("where", ("rows", "t"), ("empty", "b")), ("a",)), "own", (0,)),
-        ("pair", ("pairs", ("named", ("keep", ("rows", "t"), ("b",)), ("x",)), ("rows", "s")), "own", (1,)),
-        ("name", ("named", ("where", ("rows", "t"), ("not", ("empty", "b"))), ("b", "a")), "own", (1,)),
+    S, T, V = ("rows", "s"), ("rows", "t"), ("view", "w")
+    # The user 1 sees nothing but what a view shows: nothing else of what this looks at may be heard of.
+    RULES = [("read", "let", "s", (0,), YES), ("read", "let", "t", (0,), ("is", "b", 1))]
+    SHOWN = [
+        ("less", S, ("keep", T, ("a",))),
+        ("keep", ("where", T, ("empty", "b")), ("a",)),
+        ("keep", ("pairs", ("named", ("keep", T, ("b",)), ("x",)), S), ("a",)),
+        ("keep", ("named", ("where", T, ("not", ("empty", "b"))), ("b", "a")), ("a",)),
+        ("where", S, ("has", "t", "a", "a", ("is", "b", 1))),
+        ("keep", ("where", ("pairs", ("named", S, ("x",)), T), ("same", "x", "b")), ("a",)),
     ]
-    LOUD_ASKS = {
-        0: [("view", "lack"), ("view", "keys"), ("less", ("rows", "s"), ("view", "lack")), ("keep", ("rows", "t"), ("a",))],
-        1: [
-            ("keep", ("view", "pair"), ("a",)), ("keep", ("view", "name"), ("a",)), ("view", "lack"),
-            ("less", ("rows", "s"), ("keep", ("view", "name"), ("a",))),
-        ],
-    }
+    ASKS = [V, ("keep", V, ("a",)), ("both", V, S), ("less", V, S), ("less", S, V), ("keep", T, ("a",)), ("less", V, V)]
     CONDITIONS = [
         ("loud", "a"), ("and", ("loud", "a"), ("is", "a", 1)), ("and", ("is", "a", 1), ("loud", "a")),
         ("has", "t", "a", "a", ("loud", "b")), ("not", ("has", "t", "a", "a", ("not", ("loud", "b")))),
     ]
 
+    def grouped(self, setting, user):
+        """All worlds, those together that are alike for the user."""
+        groups = {}
+        for world in all_worlds(self.GROUND):
+            known = repr([answer(setting, world, user, ask) for ask in (self.S, self.T, self.V)])
+            groups.setdefault(known, []).append(world)
+        return list(groups.values())
+
     def test_alike_worlds_hear_the_same(self):
-        setting = (self.GROUND, self.RULES, self.VIEWS)
-        self.assertIs(is_setting(setting), True)
-        worlds = all_worlds(self.GROUND)
         several = 0
-        for user, asks in self.LOUD_ASKS.items():
-            base = [("rows", "s"), ("rows", "t")]
-            base += [("view", view[0]) for view in self.VIEWS if not view[3] or user in view[3]]
-            for ask, condition in itertools.product(asks, self.CONDITIONS):
+        for shown, user in itertools.product(self.SHOWN, [0, 1]):
+            setting = (self.GROUND, self.RULES, [("w", shown, "own", ())])
+            self.assertIs(is_setting(setting), True)
+            groups = self.grouped(setting, user)
+            self.assertGreater(len(groups), 1)
+            for ask, condition in itertools.product(self.ASKS, self.CONDITIONS):
                 low = put_low(self.GROUND, rewritten(setting, user, ("where", ask, condition)))
-                told = {}
-                for world in worlds:
-                    known = repr([answer(setting, world, user, other) for other in base])
-                    told.setdefault(known, []).append(plain_heard(self.GROUND, world, low))
-                with self.subTest(user=user, ask=ask, condition=condition):
-                    self.assertGreater(len(told), 1)
-                    for hearings in told.values():
-                        self.assertEqual(hearings, hearings[:1] * len(hearings))
-                        several += len(hearings) > 1 and hearings[0] != []
-        self.assertGreater(several, 20)
+                with self.subTest(shown=shown, user=user, ask=ask, condition=condition):
+                    for group in groups:
+                        told = [plain_heard(self.GROUND, world, low) for world in group]
+                        self.assertEqual(told, told[:1] * len(told))
+                        several += len(told) > 1 and told[0] != []
+        self.assertGreater(several, 100)
 
 
 class DeepTest(unittest.TestCase):
