@@ -4,7 +4,7 @@ from rowveil.grounds import column_names, find_table
 from rowveil.kinds import is_whole_within, with_changed, word_of
 from rowveil.telling import Scene, make_teller
 
-MOST_PARTS = 8
+MOST_CONDITIONS = 8
 MOST_VALUES = {"is": 9, "below": 10}
 
 # What stands behind each word; "there" is a column of the table that is named ahead of it.
@@ -83,7 +83,7 @@ def all_parts(ground, columns, thing, most):
 
 def bounded_parts(ground, columns, thing):
     """As all_parts, but None, too, of what has too many parts or a has within a has."""
-    parts = all_parts(ground, columns, thing, MOST_PARTS)
+    parts = all_parts(ground, columns, thing, MOST_CONDITIONS)
     return None if parts is None or ("has", True) in parts else parts
 
 

@@ -1,7 +1,9 @@
-"""Whole numbers and names, which all else is made of, and tuples that begin with a word."""
+"""Whole numbers and names, which all else is made of, numbers in texts, and tuples that begin with a word."""
 
 LONGEST_NAME = 8
 LETTERS = "abcdefghijklmnopqrstuvwxyz"
+FIGURES = "0123456789"
+MOST_FIGURES = 2
 WORDS = (
     "rows", "view", "where", "keep", "named", "pairs", "both", "less", "count", "seal",
     "and", "or", "not", "mine", "empty", "loud", "yes", "has",
@@ -41,6 +43,15 @@ def is_names(thing):
     if not isinstance(thing, tuple) or not thing:
         return False
     return all([is_name(name) for name in thing]) and are_unlike(thing)
+
+
+def written_number(text, most):
+    """The number from 0 to most, of one or two figures, that is written so; None of any other text."""
+    if not 1 <= len(text) <= MOST_FIGURES or not all([sign in FIGURES for sign in text]):
+        return None
+    number = int(text)
+    # Written again it has no nought ahead.
+    return number if number <= most and str(number) == text else None
 
 
 def word_of(thing):

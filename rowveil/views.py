@@ -2,7 +2,7 @@
 
 from rowveil.conditions import is_quiet_condition
 from rowveil.errors import NoAsk
-from rowveil.heads import MOST_PARTS, Check, find_head
+from rowveil.heads import MOST_PARTS, Check, asks_within, find_head
 from rowveil.kinds import is_name
 from rowveil.rules import are_users
 
@@ -49,3 +49,10 @@ def all_facts(ground, views):
     for name, ask, mode, users in views:
         known[name] = ask_facts(ground, known, ask)
     return known
+
+
+def has_view(ask, name):
+    """Whether a view of that name stands in the ask itself; the asks of its views are not looked at."""
+    if ask[0] == "view":
+        return ask[1] == name
+    return any([has_view(part, name) for part in asks_within(ask)])

@@ -49,14 +49,31 @@ def check_put(word):
         raise Full("the table has as many rows as it may have")
 
 
+def check_row(table, thing):
+    """Refuses (NoRow) anything that is no row of the table."""
+    if not is_row(table, thing):
+        raise NoRow("no row of the table")
+
+
+def with_row(ground, world, name, row):
+    """The world with one row more in the table of that name."""
+    return with_rows(ground, world, name, sorted([*rows_of(ground, world, name), row]))
+
+
 def put_row(setting, world, user, table, row):
     """The world with the row put by the user (NoRow, of anything that is no row; NotLet; Taken; Full)."""
     ground = setting[0]
-    if not is_row(find_table(ground, table), row):
-        raise NoRow("no row of the table")
+    check_row(find_table(ground, table), row)
     check_put(tried(setting, world, user, table, row))
-    rows = rows_of(ground, world, table)
-    return with_rows(ground, world, table, sorted([*rows, row]))
+    return with_row(ground, world, table, row)
+
+
+def fill_row(ground, world, table, row):
+    """The world with the row, whatever the rules are (NoRow, of anything that is no row; Taken; Full)."""
+    found = find_table(ground, table)
+    check_row(found, row)
+    check_put(comes_to(found, rows_of(ground, world, table), row))
+    return with_row(ground, world, table, row)
 
 
 def meant_rows(setting, world, user, table, condition):
