@@ -174,7 +174,8 @@ def rows_as_bits(ground, world):
 def shown_by(setting, user, worlds, rule):
     """What of each world the user sees by this let rule alone, all must rules looked at, as bits."""
     ground, rules, views = setting
-    alone = (ground, [rule, *[other for other in rules if other[1] == "must"]], views)
+    musts = [other for other in rules if other[1] == "must"]
+    alone = (ground, [rule, *musts], views)
     return [rows_as_bits(ground, seen_world(alone, world, user)) for world in worlds]
 
 

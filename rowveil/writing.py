@@ -57,7 +57,8 @@ def check_row(table, thing):
 
 def with_row(ground, world, name, row):
     """The world with one row more in the table of that name."""
-    return with_rows(ground, world, name, sorted([*rows_of(ground, world, name), row]))
+    rows = rows_of(ground, world, name)
+    return with_rows(ground, world, name, sorted([*rows, row]))
 
 
 def put_row(setting, world, user, table, row):

@@ -15,6 +15,10 @@ BARRED_NAMES = (
     "copyright credits delattr dir eval exec exit gc getattr globals hasattr help id importlib license locals "
     "methodcaller os quit setattr type vars sys hash map filter round iter next"
 ).split()
+METHODS = (
+    "append clear copy count endswith extend find get index insert items join keys pop remove replace reverse setdefault "
+    "split startswith endswith strip update values"
+).split()
 BUILTINS = (
     "len range enumerate zip min max sum abs sorted reversed int str bool bytes list tuple dict set frozenset "
     "isinstance ord repr any all divmod super"
@@ -128,6 +132,54 @@ class LanguageTest(unittest.TestCase):
                 elif isinstance(node, ast.Attribute) and isinstance(node.ctx, ast.Store):
                     attributes.add(node.attr)
         self.assertEqual(methods & attributes, set())
+
+    def test_module_level(self):
+        allowed = (ast.ImportFrom, ast.FunctionDef, ast.ClassDef, ast.Assign, ast.Expr)
+        for path, tree in self.trees.items():
+            for node in tree.body:
+                self.assertIsInstance(node, allowed, (path, node.lineno))
+                if isinstance(node, ast.Expr):
+                    self.assertIsInstance(node.value, ast.Constant, (path, node.lineno))
+                if isinstance(node, ast.Assign):
+                    for part in ast.walk(node.value):
+                        self.assertNotIsInstance(part, (ast.Call, ast.Lambda, ast.ListComp), (path, node.lineno))
+
+    def test_no_two_files_import_from_each_other(self):
+        ahead = {}
+        for path, tree in self.trees.items():
+            ahead[path.stem] = [node.module.split(".")[1] for node in tree.body if isinstance(node, ast.ImportFrom)]
+        while ahead:
+            first = [name for name, others in ahead.items() if not any(other in ahead for other in others)]
+            self.assertNotEqual(first, [], ahead)
+            for name in first:
+                del ahead[name]
+
+    def test_methods_are_called_where_they_stand(self):
+        methods, attributes = set(METHODS), set()
+        for tree in self.trees.values():
+            for node in ast.walk(tree):
+                if isinstance(node, ast.ClassDef):
+                    methods.update(part.name for part in node.body if isinstance(part, ast.FunctionDef))
+                elif isinstance(node, ast.Attribute) and isinstance(node.ctx, ast.Store):
+                    attributes.add(node.attr)
+        for path, tree in self.trees.items():
+            functions = [node.func for node in ast.walk(tree) if isinstance(node, ast.Call)]
+            for node in ast.walk(tree):
+                if isinstance(node, ast.Attribute) and isinstance(node.ctx, ast.Load):
+                    expected = methods if node in functions else attributes
+                    self.assertIn(node.attr, expected, (path, node.lineno))
+
+    def test_what_stands_in_a_finally(self):
+        for path, tree in self.trees.items():
+            for node in ast.walk(tree):
+                if isinstance(node, ast.Try):
+                    for row in node.finalbody:
+                        for part in ast.walk(row):
+                            self.assertNotIsInstance(part, (ast.Return, ast.Raise, ast.For, ast.Subscript), (path, row.lineno))
+                            if isinstance(part, ast.Call):
+                                self.assertIn(called(part), ["append", "clear"], (path, row.lineno))
+                    for handler in node.handlers:
+                        self.assertIsInstance(handler.type, ast.Name, (path, handler.lineno))
 
 
 if __name__ == "__main__":

@@ -218,6 +218,10 @@ class ReadConditionTest(Refusing):
         one = "( " * 20 + "a = 1" + " )" * 20
         self.assert_read(f"{one} and {one}", ("and", A, A))
         self.assert_refused(f"( {one} and {one} )")
+        # One round all that follows is still counted behind others that have ended.
+        self.assert_refused(f"( ( yes ) and {one} )")
+        self.assert_refused(f"( not ( ( yes ) ) or {one} )")
+        self.assert_read(f"( ( yes ) and {one[2:-2]} )", ("and", YES, A))
         self.assert_refused(f"not ( {one} or yes )")
 
     def test_brackets_round_a_has_count_within_it(self):
@@ -323,6 +327,7 @@ class ReadAskTest(Refusing):
             "rows t | count n m", "rows t | count n,m", "rows t | count 1", "rows t| seal", "rows t |seal", "rows t|seal",
             "rows t | where a = 1 | ", "( rows t | where a = 1 ) | seal", "rows t )", "( rows t", "rows ( t )", "(rows t pairs rows u)",
             "Rows t", "rows T", "yes", "a = 1", "( rows t less rows u ) seal", "( rows t | where ( a = 1 less rows u ) )",
+            "x rows t pairs rows u )", "seal rows t both rows u )", "| rows t less rows u )", ") rows t less rows u )",
             "( rows t or rows u )", "( rows t PAIRS rows u )", "rows t | where yes pairs rows u", "( rows t less )",
         ]:
             self.assert_no_ask(text)
